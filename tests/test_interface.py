@@ -1,0 +1,68 @@
+"""The names that the document lists stand in the very files and classes under which it lists them."""
+
+import importlib
+import inspect
+import unittest
+
+FUNCTIONS = {
+    "twozeros.totals": {"total": ["first", "rest"]},
+    "twozeros.halves": {
+        "packed": ["width", "halves"], "half_total": ["width", "halves"], "joined": ["width", "pieces"],
+    },
+}
+
+METHODS = {
+    ("twozeros.words", "Word"): {
+        "__init__": ["self", "width", "value"], "empty": ["width"], "full": ["width"], "read": ["text"],
+        "like": ["self", "other"], "__str__": ["self"], "__repr__": ["self"], "__bool__": ["self"], "__abs__": ["self"],
+        "__invert__": ["self"], "__add__": ["self", "other"], "__radd__": ["self", "other"],
+        "__sub__": ["self", "other"], "__rsub__": ["self", "other"], "__xor__": ["self", "other"],
+        "__rxor__": ["self", "other"], "__mul__": ["self", "other"], "__rmul__": ["self", "other"],
+        "__lshift__": ["self", "other"], "__rshift__": ["self", "other"], "__eq__": ["self", "other"],
+        "__lt__": ["self", "other"], "__le__": ["self", "other"], "__gt__": ["self", "other"],
+        "__ge__": ["self", "other"],
+    },
+    ("twozeros.totals", "Running"): {
+        "__init__": ["self", "width"], "add": ["self", "word"], "drop": ["self", "word"],
+        "exchange": ["self", "old", "new"], "ascending": ["self"], "trial": ["self"], "tried": ["self", "ask"],
+        "__len__": ["self"], "__contains__": ["self", "x"], "__iadd__": ["self", "other"],
+        "__isub__": ["self", "other"],
+    },
+}
+
+
+def parameters(function):
+    return list(inspect.signature(function).parameters)
+
+
+class Interface(unittest.TestCase):
+    def test_functions(self):
+        for module, listed in FUNCTIONS.items():
+            for name, names in listed.items():
+                with self.subTest(module=module, name=name):
+                    function = getattr(importlib.import_module(module), name)
+                    self.assertTrue(inspect.isfunction(function))
+                    self.assertEqual((function.__module__, function.__name__), (module, name))
+                    self.assertEqual(parameters(function), names)
+
+    def test_methods(self):
+        for (module, class_name), listed in METHODS.items():
+            made = getattr(importlib.import_module(module), class_name)
+            self.assertEqual((made.__module__, made.__name__), (module, class_name))
+            for name, names in listed.items():
+                with self.subTest(class_name=class_name, name=name):
+                    self.assertIn(name, vars(made))
+                    self.assertEqual(parameters(getattr(made, name)), names)
+
+    def test_kinds_of_methods(self):
+        from twozeros.totals import Running
+        from twozeros.words import Word
+        self.assertIsInstance(vars(Word)["empty"], staticmethod)
+        self.assertIsInstance(vars(Word)["full"], staticmethod)
+        self.assertIsInstance(vars(Word)["read"], classmethod)
+        self.assertIn("MOST_WIDTH", vars(Word))
+        self.assertIsInstance(vars(Running)["total"], property)
+
+
+if __name__ == "__main__":
+    unittest.main()

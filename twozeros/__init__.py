@@ -1,0 +1,1 @@
+"""Twozeros: sums that carry round, with two zeros, told for all widths at once."""
