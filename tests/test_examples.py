@@ -1,7 +1,11 @@
 """The examples of the document, word for word."""
 
 import doctest
+import re
 import unittest
+
+from twozeros import formulas, forms, sayings
+from twozeros.errors import ZerosError
 
 PART_1 = """
 >>> from twozeros.words import Word
@@ -34,10 +38,69 @@ PART_2 = """
 3
 """
 
+PART_3 = """
+>>> a, b = named("a"), named("b")
+>>> mend = ~(~a + ~b + 3)
+>>> [str(mend), mend.names, mend.size, str(mend.value_at(2, {"a": 1, "b": 0}))]
+['~(~a + ~b + 3)', ('a', 'b'), 8, '01']
+>>> [str(2 * (a - b) << 3), Formula.read("a + (b - 1)") == a + (b - 1)]
+['2 * (a - b) << 3', True]
+>>> Formula.read("(a)")
+raises BadFormula('(a)')
+"""
+
+PART_4 = """
+>>> a, b = named("a"), named("b")
+>>> [str(form_of(3 * a - (b >> 2) + 5)), str(form_of(3 * a - (b >> 2)).normal()), form_of(~(a + a)).rest_at(3, {"a": 5})]
+['(12 a - b + 20) / 4', '12 a - b', 4]
+>>> [[str(f) for f in complement_forms(~(~a + 6 * b) - (a - b))]]
+[['a', 'a - 6 b', 'b', 'a - b']]
+>>> [is_empty_when(~(a + b), (), [Form({"a": 1, "b": 1})]), is_empty_when(~(a + b), ("a", "b"), [Form({"a": 1, "b": 1})])]
+[True, False]
+"""
+
+PART_5 = """
+>>> a, b = named("a"), named("b")
+>>> odd = same(~(a + a + a), ~a + ~a + ~a)
+>>> [str(odd), odd.holds_at(3, {"a": 1}), odd.holds_at(2, {"a": 1}), [str(f) for f in odd.forms()]]
+['same(~(a + a + a), ~a + ~a + ~a)', True, False, ['3 a', 'a']]
+>>> [odd.truth((), []), odd.truth((), [Form({"a": 3})]), odd.truth(("a",), [])]
+[True, False, True]
+>>> str(follows(is_empty(a) & is_empty(b), ~(like(a, b) ^ no())))
+'~(isempty(a) & isempty(b)) | ~(like(a, b) ^ no)'
+"""
+
+PART_6 = """
+>>> from twozeros.stairs import is_stairs, listed, order_of, shared, solution, solutions, stairs
+>>> rows = [[1, 2], [2, 1]]
+>>> made = stairs(rows)
+>>> [made.divisors, is_stairs(rows, made), is_stairs([[1, 2], [2, 2]], made)]
+[(1, 3), True, False]
+>>> [solutions(rows, [0, 0], 4), solutions(rows, [0, 0], 3), solutions(rows, [1, 1], 4), listed(rows, [1, 2], 4)]
+[3, 1, 0, [[4, 5], [9, 10], [14, 0]]]
+>>> [solutions([[]], [6], 2), solutions([[]], [6], 3), solution([[3]], [1], 3)]
+[1, 0, [2]]
+>>> [order_of(7), order_of(9), order_of(1), shared(12, 4), shared(9, 10 ** 30)]
+[3, 6, 1, 3, 3]
+"""
+
+
+
+def error_of(action):
+    """The error that the action raises, as the document writes it."""
+    try:
+        action()
+    except ZerosError as error:
+        told = ", ".join([repr(value) for value in vars(error).values()])
+        return f"{type(error).__name__}({told})"
+    return "no error"
+
 
 class Examples(unittest.TestCase):
     def run_example(self, name, text):
-        example = doctest.DocTestParser().get_doctest(text, {}, name, None, None)
+        told = re.sub(r">>> (.*)\nraises (.*)\n", r">>> print(error_of(lambda: \1))\n\2\n", text)
+        known = {**vars(formulas), **vars(forms), **vars(sayings), "error_of": error_of}
+        example = doctest.DocTestParser().get_doctest(told, known, name, None, None)
         said = []
         result = doctest.DocTestRunner(verbose=False).run(example, out=said.append)
         self.assertEqual(result.failed, 0, "".join(said))
@@ -48,6 +111,18 @@ class Examples(unittest.TestCase):
 
     def test_part_2(self):
         self.run_example("part 2", PART_2)
+
+    def test_part_3(self):
+        self.run_example("part 3", PART_3)
+
+    def test_part_4(self):
+        self.run_example("part 4", PART_4)
+
+    def test_part_5(self):
+        self.run_example("part 5", PART_5)
+
+    def test_part_6(self):
+        self.run_example("part 6", PART_6)
 
 
 if __name__ == "__main__":

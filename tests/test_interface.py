@@ -9,6 +9,19 @@ FUNCTIONS = {
     "twozeros.halves": {
         "packed": ["width", "halves"], "half_total": ["width", "halves"], "joined": ["width", "pieces"],
     },
+    "twozeros.formulas": {"named": ["name"], "number": ["c"], "full": []},
+    "twozeros.forms": {
+        "form_of": ["formula"], "complement_forms": ["formula"], "is_empty_when": ["formula", "empties", "zeros"],
+    },
+    "twozeros.sayings": {
+        "same": ["e", "f"], "like": ["e", "f"], "is_empty": ["e"], "is_full": ["e"], "yes": [], "no": [],
+        "all_of": ["sayings"], "any_of": ["sayings"], "follows": ["s", "t"],
+    },
+    "twozeros.stairs": {
+        "stairs": ["rows"], "is_stairs": ["rows", "thing"], "solutions": ["rows", "constants", "width"],
+        "solution": ["rows", "constants", "width"], "listed": ["rows", "constants", "width"], "order_of": ["number"],
+        "shared": ["number", "width"],
+    },
 }
 
 METHODS = {
@@ -28,6 +41,34 @@ METHODS = {
         "__len__": ["self"], "__contains__": ["self", "x"], "__iadd__": ["self", "other"],
         "__isub__": ["self", "other"],
     },
+    ("twozeros.formulas", "Formula"): {
+        "read": ["text"], "replaced": ["self", "formulas"], "value_at": ["self", "width", "words"], "__str__": ["self"],
+        "__eq__": ["self", "other"], "__invert__": ["self"], "__add__": ["self", "other"], "__radd__": ["self", "other"],
+        "__sub__": ["self", "other"], "__rsub__": ["self", "other"], "__mul__": ["self", "other"],
+        "__rmul__": ["self", "other"], "__lshift__": ["self", "other"], "__rshift__": ["self", "other"],
+    },
+    ("twozeros.forms", "Form"): {
+        "__init__": ["self", "numbers", "constant", "scale"], "normal": ["self"], "without": ["self", "names"],
+        "row": ["self", "names"], "rest_at": ["self", "width", "words"], "__str__": ["self"], "__eq__": ["self", "other"],
+        "__bool__": ["self"], "__neg__": ["self"], "__add__": ["self", "other"], "__sub__": ["self", "other"],
+        "__mul__": ["self", "other"], "__rmul__": ["self", "other"],
+    },
+    ("twozeros.sayings", "Saying"): {
+        "read": ["text"], "holds_at": ["self", "width", "words"], "replaced": ["self", "formulas"], "forms": ["self"],
+        "truth": ["self", "empties", "zeros"], "__str__": ["self"], "__eq__": ["self", "other"], "__invert__": ["self"],
+        "__and__": ["self", "other"], "__xor__": ["self", "other"], "__or__": ["self", "other"],
+    },
+    ("twozeros.stairs", "Stairs"): {
+        "__init__": ["self", "left", "right", "left_back", "right_back", "divisors"],
+    },
+}
+
+KINDS = {
+    ("twozeros.words", "Word"): {"empty": staticmethod, "full": staticmethod, "read": classmethod, "MOST_WIDTH": int},
+    ("twozeros.totals", "Running"): {"total": property},
+    ("twozeros.formulas", "Formula"): {"read": classmethod, "MOST_SIZE": int},
+    ("twozeros.forms", "Form"): {"numbers": property, "constant": property, "scale": property, "names": property},
+    ("twozeros.sayings", "Saying"): {"read": classmethod, "MOST_SIZE": int},
 }
 
 
@@ -55,13 +96,11 @@ class Interface(unittest.TestCase):
                     self.assertEqual(parameters(getattr(made, name)), names)
 
     def test_kinds_of_methods(self):
-        from twozeros.totals import Running
-        from twozeros.words import Word
-        self.assertIsInstance(vars(Word)["empty"], staticmethod)
-        self.assertIsInstance(vars(Word)["full"], staticmethod)
-        self.assertIsInstance(vars(Word)["read"], classmethod)
-        self.assertIn("MOST_WIDTH", vars(Word))
-        self.assertIsInstance(vars(Running)["total"], property)
+        for (module, class_name), listed in KINDS.items():
+            made = getattr(importlib.import_module(module), class_name)
+            for name, kind in listed.items():
+                with self.subTest(class_name=class_name, name=name):
+                    self.assertIsInstance(vars(made)[name], kind)
 
 
 if __name__ == "__main__":

@@ -1,5 +1,9 @@
 """What several tests need: any values, and sums by the plainest reading of the document."""
 
+from twozeros.formulas import named, number
+from twozeros.forms import Form
+from twozeros.sayings import is_empty, yes
+from twozeros.stairs import stairs
 from twozeros.totals import Running
 from twozeros.words import Word
 
@@ -11,6 +15,8 @@ def no_integers():
     return [
         None, True, False, "", "1", "0101", "word", [], [0], [1, [2, [3]]], (), (1,), (1, 2), (None, "a"),
         {}, {"a": 1}, {"width": 4, "value": 6}, [Word(4, 6)], Running(4), Word,
+        named("a"), number(3), named("a") + 3, Form({"a": 1}), Form({}, 3), is_empty(named("a")), yes(), stairs([[1]]),
+        [named("a")], {"a": named("a")}, (Form({}), yes()),
     ]
 
 

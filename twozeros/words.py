@@ -1,6 +1,6 @@
 """Words of a width from 1 to 64, whose sums carry round."""
 
-from twozeros.errors import BadWidth, BadWord, UnlikeWidths
+from twozeros.errors import BadWidth, BadWord, NoWord, UnlikeWidths
 from twozeros.kinds import MOST_TIMES, is_from
 
 
@@ -179,3 +179,11 @@ def checked_value(width, word):
     if value is None:
         raise BadWord(word)
     return value
+
+
+def checked_values(width, names, words):
+    """A dict from these names, which are ascending, to the values of their words."""
+    for name in names:
+        if name not in words:
+            raise NoWord(name)
+    return {name: checked_value(width, words[name]) for name in names}
