@@ -4,7 +4,7 @@ import doctest
 import re
 import unittest
 
-from twozeros import formulas, forms, sayings
+from twozeros import formulas, forms, sayings, tables, widthsets
 from twozeros.errors import ZerosError
 
 PART_1 = """
@@ -84,6 +84,59 @@ PART_6 = """
 [3, 6, 1, 3, 3]
 """
 
+PART_7 = """
+>>> from twozeros.counts import count, example, weighted, weights
+>>> from twozeros.sayings import Saying
+>>> alike = Saying.read("same(~(x + x + x), ~x + ~x + ~x)")
+>>> list(weights(alike))
+[((), (), 1), ((), (0,), -1), ((), (1,), -1), ((), (0, 1), 2), (('x',), (), 1)]
+>>> [count(alike, 1), count(alike, 2), count(alike, 3), count(alike, 4)]
+[2, 2, 8, 14]
+>>> good = Saying.read("isfull(r + m)")
+>>> [count(good, 1), weighted(good, "r", 2, 1), weighted(good, "r", 0, 1)]
+[3, 7, 1]
+"""
+
+PART_8 = """
+>>> either = Widths.dividing(3) | Widths.dividing(7)
+>>> [str(either), either.first(8), either.up_to(12), either.kth(3), either.density]
+['- | 1 | 6 | 2 3 6', [2, 3, 4, 6, 8, 9, 10, 12], 8, 6, (2, 3)]
+>>> [str(either - Widths.of(2)), str(Widths.told([1, 3], 5, 4, [1])), str(~Widths.of(3))]
+['- | 3 | 6 | 2 3 6', '- | 1 | 2 | 1', '1 2 | 4 | 1 | 1']
+"""
+
+PART_9 = """
+>>> x = named("x")
+>>> one, other = ~(x + x + x), 3 * ~x
+>>> t = table(same(one, other))
+>>> [t.start, t.length, t.classes(), t.count_at(2), t.polynomial(10 ** 30 + 1)]
+[1, 2, [(1, (1, 1)), (2, (-1, 1))], 2, [1, 1]]
+>>> [str(s) for s in compared(one, other)]
+['- | 1 | 2 | 1', '- | 1 | 2 | 2', '- | 1 | 1 | -']
+>>> u = table(is_full(x + 5))
+>>> [u.start, u.length, u.classes(), u.count_at(1), u.count_at(2)]
+[2, 1, [(1, (1,))], 2, 1]
+>>> [str(always(is_full(x + 5))), str(sometimes(is_full(x + 5))), str(exactly(is_full(x + 5), 2, 7))]
+['1 | 2 | 1 | -', '- | 1 | 1 | 1', '1 | 2 | 1 | -']
+"""
+
+PART_10 = """
+>>> from twozeros.papers import counted, is_paper, paper, table_of
+>>> from twozeros.sayings import Saying
+>>> from twozeros.stairs import Stairs, stairs
+>>> from twozeros.tables import table
+>>> alike = Saying.read("same(~(x + x + x), ~x + ~x + ~x)")
+>>> made = paper(alike)
+>>> [(E, U, s.divisors) for E, U, s in made]
+[((), (0,), (3,)), ((), (1,), (1,)), ((), (0, 1), (1,))]
+>>> [is_paper(alike, made), is_paper(alike, made[::-1]), is_paper(alike, made[1:]), counted(alike, made, 2), counted(alike, made, 3)]
+[True, True, False, 2, 8]
+>>> other = Stairs(((-1,),), ((-1,),), ((-1,),), ((-1,),), (3,))
+>>> [is_paper(alike, [((), (0,), other)] + made[1:]), table_of(alike, made) == table(alike)]
+[True, True]
+>>> counted(alike, [((), (0,), stairs([[9]]))] + made[1:], 2)
+raises BadPaper()
+"""
 
 
 def error_of(action):
@@ -99,7 +152,10 @@ def error_of(action):
 class Examples(unittest.TestCase):
     def run_example(self, name, text):
         told = re.sub(r">>> (.*)\nraises (.*)\n", r">>> print(error_of(lambda: \1))\n\2\n", text)
-        known = {**vars(formulas), **vars(forms), **vars(sayings), "error_of": error_of}
+        modules = (formulas, forms, sayings, widthsets, tables)
+        known = {"error_of": error_of}
+        for module in modules:
+            known.update(vars(module))
         example = doctest.DocTestParser().get_doctest(told, known, name, None, None)
         said = []
         result = doctest.DocTestRunner(verbose=False).run(example, out=said.append)
@@ -123,6 +179,18 @@ class Examples(unittest.TestCase):
 
     def test_part_6(self):
         self.run_example("part 6", PART_6)
+
+    def test_part_7(self):
+        self.run_example("part 7", PART_7)
+
+    def test_part_8(self):
+        self.run_example("part 8", PART_8)
+
+    def test_part_9(self):
+        self.run_example("part 9", PART_9)
+
+    def test_part_10(self):
+        self.run_example("part 10", PART_10)
 
 
 if __name__ == "__main__":

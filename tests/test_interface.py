@@ -22,6 +22,18 @@ FUNCTIONS = {
         "solution": ["rows", "constants", "width"], "listed": ["rows", "constants", "width"], "order_of": ["number"],
         "shared": ["number", "width"],
     },
+    "twozeros.counts": {
+        "weights": ["saying"], "count": ["saying", "width"], "example": ["saying", "width"],
+        "examples": ["saying", "width"], "weighted": ["saying", "name", "words", "width"],
+    },
+    "twozeros.tables": {
+        "table": ["saying"], "always": ["saying"], "sometimes": ["saying"], "exactly": ["saying", "numbers"],
+        "compared": ["one", "other"],
+    },
+    "twozeros.papers": {
+        "paper": ["saying"], "is_paper": ["saying", "thing"], "counted": ["saying", "thing", "width"],
+        "table_of": ["saying", "thing"],
+    },
 }
 
 METHODS = {
@@ -61,6 +73,18 @@ METHODS = {
     ("twozeros.stairs", "Stairs"): {
         "__init__": ["self", "left", "right", "left_back", "right_back", "divisors"],
     },
+    ("twozeros.widthsets", "Widths"): {
+        "every": [], "none": [], "of": ["widths"], "from_width": ["w"], "multiples": ["k"], "dividing": ["q"],
+        "told": ["head", "start", "length", "divisors"], "read": ["text"], "least": ["self", "start"],
+        "up_to": ["self", "n"], "kth": ["self", "k"], "first": ["self", "n"], "walk": ["self"], "parted": ["self", "t"],
+        "__contains__": ["self", "x"], "__and__": ["self", "other"], "__or__": ["self", "other"],
+        "__sub__": ["self", "other"], "__xor__": ["self", "other"], "__invert__": ["self"], "__le__": ["self", "other"],
+        "__lt__": ["self", "other"], "__ge__": ["self", "other"], "__gt__": ["self", "other"],
+        "__eq__": ["self", "other"], "__bool__": ["self"], "__str__": ["self"],
+    },
+    ("twozeros.tables", "Table"): {
+        "count_at": ["self", "width"], "polynomial": ["self", "width"], "classes": ["self"], "__eq__": ["self", "other"],
+    },
 }
 
 KINDS = {
@@ -69,6 +93,12 @@ KINDS = {
     ("twozeros.formulas", "Formula"): {"read": classmethod, "MOST_SIZE": int},
     ("twozeros.forms", "Form"): {"numbers": property, "constant": property, "scale": property, "names": property},
     ("twozeros.sayings", "Saying"): {"read": classmethod, "MOST_SIZE": int},
+    ("twozeros.widthsets", "Widths"): {
+        "every": staticmethod, "none": staticmethod, "from_width": staticmethod, "multiples": staticmethod,
+        "dividing": staticmethod, "told": staticmethod, "read": classmethod, "MOST": int, "head": property,
+        "start": property, "length": property, "divisors": property, "is_finite": property, "density": property,
+    },
+    ("twozeros.tables", "Table"): {"start": property, "length": property},
 }
 
 

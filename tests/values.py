@@ -4,7 +4,9 @@ from twozeros.formulas import named, number
 from twozeros.forms import Form
 from twozeros.sayings import is_empty, yes
 from twozeros.stairs import stairs
+from twozeros.tables import table
 from twozeros.totals import Running
+from twozeros.widthsets import Widths
 from twozeros.words import Word
 
 WIDTHS = (1, 2, 3, 4, 7, 8, 31, 32, 63, 64)
@@ -16,7 +18,7 @@ def no_integers():
         None, True, False, "", "1", "0101", "word", [], [0], [1, [2, [3]]], (), (1,), (1, 2), (None, "a"),
         {}, {"a": 1}, {"width": 4, "value": 6}, [Word(4, 6)], Running(4), Word,
         named("a"), number(3), named("a") + 3, Form({"a": 1}), Form({}, 3), is_empty(named("a")), yes(), stairs([[1]]),
-        [named("a")], {"a": named("a")}, (Form({}), yes()),
+        [named("a")], {"a": named("a")}, (Form({}), yes()), Widths.every(), Widths.of(3), table(yes()), [Widths.none()],
     ]
 
 

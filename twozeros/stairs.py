@@ -71,8 +71,9 @@ def listed(rows, constants, width):
         return []
     found = [inner]
     for at in range(len(rows[0])):
-        steps = inner_steps(made.divisors, at, most)
-        found = [row[:at] + [(row[at] + step) % most] + row[at + 1:] for row in found for step in steps]
+        many = inner_many(made.divisors, at, most)
+        turns = [turn * (most // many) for turn in range(many)]
+        found = [row[:at] + [(row[at] + turn) % most] + row[at + 1:] for row in found for turn in turns]
     codes = [coded(outer_rests(made.right, row, most), most) for row in found]
     return [decoded(code, len(rows[0]), most) for code in sorted(codes, key=int)]
 
@@ -180,7 +181,7 @@ def many_lists(divisors, shifted, columns, most):
     """How many lists of so many rests solve a system, by its divisors and the constants that its left side gives."""
     product = 1
     for at, constant in enumerate(shifted):
-        common = gcd(divisors[at], most) if at < len(divisors) else most
+        common = inner_many(divisors, at, most)
         if constant % common != 0:
             return 0
         if at < len(divisors):
@@ -202,10 +203,9 @@ def inner_solution(divisors, shifted, columns, most):
     return inner
 
 
-def inner_steps(divisors, at, most):
-    """What can be added to the y at this index without a change of the constants."""
-    common = gcd(divisors[at], most) if at < len(divisors) else most
-    return list(range(0, most, most // common))
+def inner_many(divisors, at, most):
+    """How many values the y at this index can have: each of them can be moved by steps of M over this number."""
+    return gcd(divisors[at], most) if at < len(divisors) else most
 
 
 def outer_rests(right, inner, most):
