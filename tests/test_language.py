@@ -103,6 +103,36 @@ def methods():
                 yield place, kind, node
 
 
+COMPREHENSIONS = (ast.ListComp, ast.SetComp, ast.DictComp, ast.GeneratorExp)
+
+
+def own_names(function):
+    """The names that a function itself assigns, those of comprehensions and nested functions left out."""
+    found = {arg.arg for arg in function.args.args}
+    waiting = list(ast.iter_child_nodes(function))
+    while waiting:
+        node = waiting.pop()
+        if isinstance(node, ast.Name) and isinstance(node.ctx, ast.Store):
+            found.add(node.id)
+        if not isinstance(node, (*COMPREHENSIONS, ast.FunctionDef, ast.Lambda)):
+            waiting += ast.iter_child_nodes(node)
+    return found
+
+
+def inner_clashes(node, outer, depth):
+    """Comprehensions inside others, or in nested functions, whose variables are names from further out."""
+    for part in ast.iter_child_nodes(node):
+        if isinstance(part, COMPREHENSIONS):
+            own = {name.id for made in part.generators for name in ast.walk(made.target) if isinstance(name, ast.Name)}
+            if depth > 0 and own & outer - {"_"}:
+                yield part.lineno, own & outer
+            yield from inner_clashes(part, outer | own, depth + 1)
+        elif isinstance(part, ast.FunctionDef):
+            yield from inner_clashes(part, outer | own_names(part), depth + 1)
+        else:
+            yield from inner_clashes(part, outer, depth)
+
+
 class Files(unittest.TestCase):
     def test_names_of_files(self):
         for path in files():
@@ -258,6 +288,57 @@ class Code(unittest.TestCase):
             named = node.type.elts if isinstance(node.type, ast.Tuple) else [node.type]
             for error in named:
                 self.assertIn(ast.unparse(error), own | CAUGHT, place)
+
+    def test_names_in_comprehensions(self):
+        for place, node in nodes(ast.FunctionDef):
+            self.assertEqual(list(inner_clashes(node, own_names(node), 0)), [], place)
+
+    def test_no_assignment_with_a_sign_beside_words(self):
+        for place, node in nodes(ast.AugAssign):
+            self.fail(f"{place}: a word or a running total may stand there")
+
+    def test_heaps_and_products_are_not_used(self):
+        for place, node in nodes(ast.ImportFrom):
+            self.assertNotIn(node.module, ("heapq", "itertools", "collections"), place)
+
+    def test_stored_attributes_are_no_properties(self):
+        plain = {
+            node.name for _, _, node in methods()
+            if any(ast.unparse(decorator) == "property" for decorator in node.decorator_list)
+        }
+        with_setter = {
+            node.name for _, _, node in methods()
+            if any(ast.unparse(decorator).endswith(".setter") for decorator in node.decorator_list)
+        }
+        for place, node in nodes(ast.Attribute):
+            if isinstance(node.ctx, ast.Store):
+                self.assertNotIn(node.attr, plain - with_setter, place)
+
+    def test_what_is_sorted_is_plain(self):
+        for place, node in nodes(ast.Call):
+            if isinstance(node.func, ast.Name) and node.func.id in ("sorted", "min", "max"):
+                keys = [ast.unparse(word.value) for word in node.keywords if word.arg == "key"]
+                self.assertIn(keys, (["int"], ["str"], ["len"]), place)
+
+    def test_generators_have_names_of_their_own(self):
+        functions = [node for _, node in nodes(ast.FunctionDef)]
+        yielding = {
+            node.name for node in functions if any(isinstance(part, (ast.Yield, ast.YieldFrom)) for part in ast.walk(node))
+        }
+        for name in yielding:
+            self.assertEqual([node.name for node in functions].count(name), 1, name)
+            self.assertNotIn(name, {other for _, other in bound_names()} - {node.name for node in functions})
+
+    def test_static_and_class_methods_have_names_of_their_own(self):
+        kinds = {}
+        for place, kind, node in methods():
+            told = [ast.unparse(decorator) for decorator in node.decorator_list]
+            fixed = "static" if "staticmethod" in told or "classmethod" in told else "plain"
+            kinds.setdefault(node.name, set()).add(fixed)
+        stored = {node.attr for _, node in nodes(ast.Attribute) if isinstance(node.ctx, ast.Store)}
+        for name in kinds:
+            self.assertEqual(len(kinds[name]), 1, name)
+            self.assertFalse("static" in kinds[name] and name in stored | BUILTIN_METHODS, name)
 
     def test_is_only_with_constants(self):
         for place, node in nodes(ast.Compare):

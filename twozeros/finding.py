@@ -85,7 +85,7 @@ class Search:
         for at in range(start, len(self.own)):
             own.append([self.own[at][0] if at == start + to else 0 for to in range(columns)])
         chosen = subsets(list(range(len(self.others))))
-        return [(row, found_stairs(own + [self.others[at][start:] for at in row])) for row in chosen]
+        return [(row, found_stairs(own + [self.others[index][start:] for index in row])) for row in chosen]
 
     def many_left(self, sieve, values):
         """How many lists of values begin with these and make the rows 0, but none of the others."""

@@ -91,7 +91,8 @@ def order_of(number):
 def shared(number, width):
     """The greatest common divisor of the number and 2 ** width - 1."""
     rest = 1
-    for bit in f"{width:b}":
+    bits = f"{width:b}"
+    for bit in bits:
         rest = rest * rest * (2 if bit == "1" else 1) % number
     return gcd(number, rest - 1)
 

@@ -113,8 +113,8 @@ def found_pairs(truths, many):
     places = [sign_bits(row) for row in chosen]
     found = []
     for empties, truth in truths.items():
-        weights = signed_sums(truth, many)
-        found.extend([(empties, row, weights[at]) for row, at in zip(chosen, places) if weights[at] != 0])
+        sums = signed_sums(truth, many)
+        found.extend([(empties, row, sums[at]) for row, at in zip(chosen, places) if sums[at] != 0])
     return found
 
 
@@ -191,13 +191,13 @@ def number_of(parts, most):
 
 def merged(parts):
     """These summands, those with the same number of solutions at each width put together."""
-    weights = {}
+    together = {}
     for part in parts:
         key = (part.columns, part.commons, part.shifted)
-        weights[key] = weights.get(key, 0) + part.weight
+        together[key] = together.get(key, 0) + part.weight
     return [
         Summand((), weight, columns, commons, shifted)
-        for (columns, commons, shifted), weight in weights.items() if weight != 0
+        for (columns, commons, shifted), weight in together.items() if weight != 0
     ]
 
 
