@@ -1,4 +1,4 @@
-"""How an input is found at which a saying holds."""
+"""How words are found at which a saying holds."""
 
 from twozeros.matrices import times_column, times_matrix
 from twozeros.stairs import found_stairs, inner_many, inner_solution, many_lists, outer_rests
