@@ -34,6 +34,7 @@ FUNCTIONS = {
         "paper": ["saying"], "is_paper": ["saying", "thing"], "counted": ["saying", "thing", "width"],
         "table_of": ["saying", "thing"],
     },
+    "twozeros.messages": {"edited": ["message", "rows"]},
 }
 
 METHODS = {
@@ -85,6 +86,34 @@ METHODS = {
     ("twozeros.tables", "Table"): {
         "count_at": ["self", "width"], "polynomial": ["self", "width"], "classes": ["self"], "__eq__": ["self", "other"],
     },
+    ("twozeros.layouts", "Layout"): {
+        "__init__": ["self", "words", "checks"], "covered": ["self", "check"], "fresh": ["self", "check", "never_empty"],
+        "flat": ["self", "check"], "__eq__": ["self", "other"],
+    },
+    ("twozeros.messages", "Message"): {
+        "__init__": ["self", "layout", "width", "values"], "__getitem__": ["self", "at"],
+        "__setitem__": ["self", "at", "worth"], "__contains__": ["self", "x"], "__len__": ["self"], "all_words": ["self"],
+        "set_bits": ["self", "width"], "renew": ["self", "check"], "sum_of": ["self", "check"], "editing": ["self"],
+        "tried": ["self", "ask"], "twin": ["self"], "__eq__": ["self", "other"],
+    },
+    **{
+        ("twozeros.receivers", name): {
+            "__call__": ["self", "message", "check"], "saying": ["self", "layout", "check"],
+            "takes_all": ["self", "message"], "__eq__": ["self", "other"], **more,
+        }
+        for name, more in {
+            "Receiver": {"of": ["word"]}, "Summing": {"__init__": ["self"]}, "Resting": {"__init__": ["self"]},
+            "Comparing": {"__init__": ["self"]}, "Sparing": {"__init__": ["self"]},
+        }.items()
+    },
+    ("twozeros.boxes", "Box"): {
+        "__init__": ["self", "name", "writes"], "of": ["name", "writes"], "__call__": ["self", "message", "news"],
+        "__eq__": ["self", "other"],
+    },
+    ("twozeros.boxes", "Look"): {"__init__": ["self", "name", "test", "writes"]},
+    ("twozeros.boxes", "Mend"): {"__init__": ["self", "name", "check", "word", "new", "sort"]},
+    ("twozeros.boxes", "LookMend"): {"__init__": ["self", "name", "test", "check", "word", "new", "sort"]},
+    ("twozeros.boxes", "Anew"): {"__init__": ["self", "name", "layout", "check"]},
 }
 
 KINDS = {
@@ -99,6 +128,16 @@ KINDS = {
         "start": property, "length": property, "divisors": property, "is_finite": property, "density": property,
     },
     ("twozeros.tables", "Table"): {"start": property, "length": property},
+    ("twozeros.layouts", "Layout"): {"names": property},
+    ("twozeros.messages", "Message"): {"bits": property},
+    ("twozeros.receivers", "Receiver"): {"of": staticmethod, "WORDS": tuple},
+    ("twozeros.boxes", "Box"): {"of": classmethod, "names": property},
+}
+
+BY_NAME_ALONE = {
+    ("twozeros.layouts", "Layout", "fresh"): {"never_empty": False},
+    ("twozeros.boxes", "Mend", "__init__"): {"sort": "careful"},
+    ("twozeros.boxes", "LookMend", "__init__"): {"sort": "careful"},
 }
 
 
@@ -131,6 +170,13 @@ class Interface(unittest.TestCase):
             for name, kind in listed.items():
                 with self.subTest(class_name=class_name, name=name):
                     self.assertIsInstance(vars(made)[name], kind)
+
+    def test_parameters_that_are_passed_by_name_alone(self):
+        for (module, class_name, name), listed in BY_NAME_ALONE.items():
+            method = getattr(getattr(importlib.import_module(module), class_name), name)
+            told = inspect.signature(method).parameters.values()
+            found = {part.name: part.default for part in told if part.kind is inspect.Parameter.KEYWORD_ONLY}
+            self.assertEqual(found, listed)
 
 
 if __name__ == "__main__":

@@ -1,7 +1,11 @@
 """What several tests need: any values, and sums by the plainest reading of the document."""
 
+from twozeros.boxes import Box, Look, LookMend, Mend
 from twozeros.formulas import named, number
 from twozeros.forms import Form
+from twozeros.layouts import Layout
+from twozeros.messages import Message
+from twozeros.receivers import Sparing, Summing
 from twozeros.sayings import is_empty, yes
 from twozeros.stairs import stairs
 from twozeros.tables import table
@@ -14,6 +18,21 @@ WIDTHS = (1, 2, 3, 4, 7, 8, 31, 32, 63, 64)
 
 def no_integers():
     """Values of every sort that are neither integers nor words."""
+    return plain_values() + objects_of_messages()
+
+
+def objects_of_messages():
+    """Objects of layouts, messages, receivers and boxes."""
+    layout = Layout(["a", "b"], [("c", "a", "b")])
+    message = Message(layout, 4, {"a": 9})
+    return [
+        layout, message, {"a": message}, (layout, [message]), Summing(), Sparing(), Box("a"), Box("a", ("b", named("c"))),
+        Mend("a", "c", "a", "n"), Look("a", yes()), LookMend("a", yes(), "c", "a", "n"), [Box("a")], Summing,
+    ]
+
+
+def plain_values():
+    """Plain values and objects of words, formulas, sayings and what is counted of them."""
     return [
         None, True, False, "", "1", "0101", "word", [], [0], [1, [2, [3]]], (), (1,), (1, 2), (None, "a"),
         {}, {"a": 1}, {"width": 4, "value": 6}, [Word(4, 6)], Running(4), Word,
@@ -61,7 +80,7 @@ def raised(test, error, action, **attributes):
     test.assertEqual(sorted(vars(caught.exception)), sorted(attributes))
     for name, wanted in attributes.items():
         found = getattr(caught.exception, name)
-        if isinstance(wanted, int) and not isinstance(wanted, bool):
+        if isinstance(wanted, (int, str)) and not isinstance(wanted, bool):
             test.assertEqual((type(found), found), (type(wanted), wanted))
         else:
             test.assertIs(found, wanted)

@@ -43,9 +43,7 @@ class Saying:
 
     def replaced(self, formulas):
         """It with these formulas in the places of these names."""
-        # Each formula is made before the saying is put together: if one is too large, that is said first.
-        steps = [(sign, tuple([part.replaced(formulas) for part in parts])) for sign, parts in self.steps]
-        return folded(steps, step_saying)
+        return replaced_sayings([(self, formulas)])[0]
 
     def forms(self):
         """The forms on which its truth depends."""
@@ -147,6 +145,16 @@ def step_saying(sign, parts, operands):
     if not operands:
         return simple_saying(sign, parts)
     return ~operands[0] if sign == "~" else joined_sayings(operands[0], sign, operands[1])
+
+
+def replaced_sayings(pairs):
+    """The sayings of pairs of a saying and a dict, each with the formulas of the dict in the places of its names."""
+    # Each formula is made before any saying is put together: if one is too large, that is said first.
+    rows = [
+        [(sign, tuple([part.replaced(formulas) for part in parts])) for sign, parts in saying.steps]
+        for saying, formulas in pairs
+    ]
+    return [folded(steps, step_saying) for steps in rows]
 
 
 def holds_with(saying, width, values):
