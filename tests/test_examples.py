@@ -4,7 +4,7 @@ import doctest
 import re
 import unittest
 
-from twozeros import formulas, forms, sayings, tables, widthsets
+from twozeros import desk, formulas, forms, sayings, tables, widthsets
 from twozeros.errors import ZerosError
 
 PART_1 = """
@@ -138,6 +138,18 @@ PART_10 = """
 raises BadPaper()
 """
 
+PART_14 = """
+>>> desk = Desk()
+>>> desk.run("formula three = a + a + a", "saying odd = same(~three, 3 * ~a)", "show odd", "always same(~three, 3 * ~a)", "count 2 : same(~three, 3 * ~a)")
+['ok', 'ok', 'same(~(a + a + a), 3 * ~a)', '- | 1 | 2 | 1', '2']
+>>> desk.run("layout r m : c r m", "begin 4 r=9 m=8", "message", "mend box c m n eager", "send n=6", "message", "takes compares c")
+['ok', 'ok', 'r=9 m=8 c=13', 'ok', 'ok', 'r=9 m=6 c=15', 'no']
+>>> [desk.say("undo"), desk.say("message"), len(desk)]
+['ok', 'r=9 m=8 c=13', 5]
+>>> desk.say("count 2: yes")
+raises BadLine()
+"""
+
 
 def error_of(action):
     """The error that the action raises, as the document writes it."""
@@ -152,7 +164,7 @@ def error_of(action):
 class Examples(unittest.TestCase):
     def run_example(self, name, text):
         told = re.sub(r">>> (.*)\nraises (.*)\n", r">>> print(error_of(lambda: \1))\n\2\n", text)
-        modules = (formulas, forms, sayings, widthsets, tables)
+        modules = (formulas, forms, sayings, widthsets, tables, desk)
         known = {"error_of": error_of}
         for module in modules:
             known.update(vars(module))
@@ -191,6 +203,9 @@ class Examples(unittest.TestCase):
 
     def test_part_10(self):
         self.run_example("part 10", PART_10)
+
+    def test_part_14(self):
+        self.run_example("part 14", PART_14)
 
 
 if __name__ == "__main__":

@@ -35,6 +35,20 @@ FUNCTIONS = {
         "table_of": ["saying", "thing"],
     },
     "twozeros.messages": {"edited": ["message", "rows"]},
+    "twozeros.chains": {
+        "lost": ["chain", "layout", "before", "behind", "check"], "masked": ["chain", "layout", "before", "behind", "check"],
+        "lost_at": ["chain", "layout", "before", "behind", "check", "width"],
+        "summed_anew": ["chain", "layout", "check", "places"],
+        "fewest_anew": ["chain", "layout", "before", "behind", "check"], "same_behind": ["one", "other", "layout"],
+    },
+    "twozeros.rings": {
+        "fillings": ["ring", "width", "words"], "fills": ["ring", "width", "words", "filling"], "unique": ["ring"],
+        "exact": ["ring"],
+    },
+    "twozeros.renewing": {
+        "renewed": ["ring", "checks"], "right": ["ring", "checks"], "mends": ["ring", "content", "checks"],
+        "right_rows": ["ring"], "least_mend": ["ring", "content"],
+    },
 }
 
 METHODS = {
@@ -114,6 +128,18 @@ METHODS = {
     ("twozeros.boxes", "Mend"): {"__init__": ["self", "name", "check", "word", "new", "sort"]},
     ("twozeros.boxes", "LookMend"): {"__init__": ["self", "name", "test", "check", "word", "new", "sort"]},
     ("twozeros.boxes", "Anew"): {"__init__": ["self", "name", "layout", "check"]},
+    ("twozeros.chains", "Chain"): {
+        "__init__": ["self", "boxes"], "of": ["boxes"], "__call__": ["self", "message", "news"],
+        "formulas": ["self", "layout"], "news": ["self", "layout"], "arrives": ["self", "layout", "receiver", "check"],
+        "__add__": ["self", "other"], "__len__": ["self"], "__eq__": ["self", "other"],
+    },
+    ("twozeros.rings", "Ring"): {
+        "__init__": ["self", "contents", "covers", "summed"], "sum_of": ["self", "check"], "wish": ["self", "check"],
+        "__eq__": ["self", "other"],
+    },
+    ("twozeros.desk", "Desk"): {
+        "__init__": ["self"], "say": ["self", "line"], "run": ["self", "lines"], "__len__": ["self"],
+    },
 }
 
 KINDS = {
@@ -132,12 +158,16 @@ KINDS = {
     ("twozeros.messages", "Message"): {"bits": property},
     ("twozeros.receivers", "Receiver"): {"of": staticmethod, "WORDS": tuple},
     ("twozeros.boxes", "Box"): {"of": classmethod, "names": property},
+    ("twozeros.chains", "Chain"): {"of": classmethod},
+    ("twozeros.rings", "Ring"): {"fits": property, "layers": property},
+    ("twozeros.desk", "Desk"): {"kept_names": property},
 }
 
 BY_NAME_ALONE = {
     ("twozeros.layouts", "Layout", "fresh"): {"never_empty": False},
     ("twozeros.boxes", "Mend", "__init__"): {"sort": "careful"},
     ("twozeros.boxes", "LookMend", "__init__"): {"sort": "careful"},
+    ("twozeros.rings", "Ring", "__init__"): {"summed": ()},
 }
 
 

@@ -340,6 +340,76 @@ class Code(unittest.TestCase):
             self.assertEqual(len(kinds[name]), 1, name)
             self.assertFalse("static" in kinds[name] and name in stored | BUILTIN_METHODS, name)
 
+    def test_methods_and_attributes_have_unlike_names(self):
+        own = {node.name for _, _, node in methods()}
+        with_setter = {
+            node.name for _, _, node in methods()
+            if any(ast.unparse(decorator).endswith(".setter") for decorator in node.decorator_list)
+        }
+        for place, node in nodes(ast.Attribute):
+            if isinstance(node.ctx, ast.Store):
+                self.assertNotIn(node.attr, own - with_setter, place)
+
+    def test_local_names_are_none_of_the_file(self):
+        for name, tree in trees():
+            known = {node.name for node in tree.body if isinstance(node, ast.ClassDef)}
+            known |= {alias.name for node in tree.body if isinstance(node, ast.ImportFrom) for alias in node.names}
+            for node in ast.walk(tree):
+                if isinstance(node, ast.arg):
+                    self.assertNotIn(node.arg, known, name)
+                if isinstance(node, ast.Name) and isinstance(node.ctx, ast.Store):
+                    self.assertNotIn(node.id, known, f"{name}:{node.lineno}")
+
+    def test_stars(self):
+        for place, node in nodes(ast.Call, ast.Assign, ast.For, ast.comprehension):
+            if isinstance(node, ast.Call):
+                stars = [part.value for part in node.args if isinstance(part, ast.Starred)]
+                self.assertLessEqual(len(stars), 1, place)
+                for part in stars:
+                    self.assertRegex(ast.unparse(part), r"\A[a-z_]+(\.[a-z_]+)?\Z", place)
+                self.assertNotIn(None, [word.arg for word in node.keywords], place)
+                continue
+            targets = node.targets if isinstance(node, ast.Assign) else [node.target]
+            for part in [part for target in targets for part in ast.walk(target)]:
+                self.assertFalse(isinstance(part, ast.Starred) and not isinstance(part.value, ast.Name), place)
+
+    def test_items_stand_beside_no_iteration(self):
+        for place, kind in nodes(ast.ClassDef):
+            own = [node.name for node in kind.body if isinstance(node, ast.FunctionDef)]
+            self.assertEqual("__getitem__" in own, "__iter__" in own, place)
+        for place, node in nodes(ast.Call):
+            self.assertNotIsInstance(node.func, ast.Subscript, place)
+            if isinstance(node.func, ast.Name) and node.func.id == "reversed":
+                self.assertRegex(ast.unparse(node.args[0]), r"\A(list|tuple|sorted|range)\(", place)
+        for name, text in sources():
+            for word in ("(type)", "Meta", "metaclass="):
+                self.assertNotIn(word, text, name)
+
+    def test_super_and_families(self):
+        above = {kind.name: [ast.unparse(base) for base in kind.bases] for _, kind in nodes(ast.ClassDef)}
+        families = {name for name in above if above[name]} | {base for name in above for base in above[name]}
+        for place, kind, node in methods():
+            calls = [part for part in ast.walk(node) if isinstance(part, ast.Call)]
+            told = [part for part in calls if ast.unparse(part.func).startswith("super()")]
+            for part in told:
+                self.assertEqual((node.name, ast.unparse(part.func)), ("__init__", "super().__init__"), place)
+            if kind.name in families:
+                self.assertNotRegex(node.name, r"\A__r(add|sub|mul|and|or|xor|lshift|rshift)__\Z", place)
+        for place, node in nodes(ast.Attribute):
+            if isinstance(node.value, ast.Name) and node.value.id in above:
+                self.assertFalse(node.attr.startswith("__"), place)
+
+    def test_no_generator_expressions_and_lambdas(self):
+        for place, node in nodes(ast.GeneratorExp, ast.Lambda, ast.NamedExpr, ast.Match, ast.Set, ast.SetComp):
+            self.fail(f"{place}: {ast.unparse(node)}")
+
+    def test_default_values(self):
+        for place, node in nodes(ast.FunctionDef):
+            for value in node.args.defaults + [part for part in node.args.kw_defaults if part is not None]:
+                self.assertIsInstance(ast.literal_eval(value), (int, str, bool, type(None), tuple), place)
+            if node.args.vararg is not None:
+                self.assertRegex(node.name, r"\A(__init__|[a-z][a-z_]*)\Z", place)
+
     def test_is_only_with_constants(self):
         for place, node in nodes(ast.Compare):
             if any(isinstance(sign, (ast.Is, ast.IsNot)) for sign in node.ops):

@@ -2,7 +2,7 @@ import itertools
 import unittest
 
 from tests.values import added, no_integers, raised, some_values
-from twozeros.errors import BadName, NoWord
+from twozeros.errors import BadName, NotThere, NoWord
 from twozeros.formulas import full, named
 from twozeros.layouts import Layout
 from twozeros.messages import Message
@@ -70,6 +70,21 @@ class Words(unittest.TestCase):
                 if type(value) is not kind:
                     self.assertIs(kind() == value, False)
                     self.assertIs(value == kind(), False)
+
+
+    def test_plain_receivers(self):
+        for one, other in itertools.product(Receiver.WORDS, repeat=2):
+            self.assertIs(Receiver(one) == Receiver(other), one == other)
+            self.assertIs(Receiver(one) == Receiver.of(other), False)
+            self.assertIs(Receiver.of(other) == Receiver(one), False)
+        self.assertIs(Receiver("sums") == NotThere("sums"), False)
+        for a, c in itertools.product((0, 3, 15), (0, 12, 15)):
+            message = Message(LAYOUT, 4, {"a": a, "c": c})
+            for word in Receiver.WORDS:
+                plain, receiver = Receiver(word), Receiver.of(word)
+                self.assertEqual([plain(message, check) for check in "cd"], [receiver(message, check) for check in "cd"])
+                self.assertEqual(plain.saying(LAYOUT, "d"), receiver.saying(LAYOUT, "d"))
+                self.assertIs(plain.takes_all(message), receiver.takes_all(message))
 
 
 class Taking(unittest.TestCase):

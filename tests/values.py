@@ -1,11 +1,14 @@
 """What several tests need: any values, and sums by the plainest reading of the document."""
 
 from twozeros.boxes import Box, Look, LookMend, Mend
+from twozeros.chains import Chain
+from twozeros.desk import Desk
 from twozeros.formulas import named, number
 from twozeros.forms import Form
 from twozeros.layouts import Layout
 from twozeros.messages import Message
 from twozeros.receivers import Sparing, Summing
+from twozeros.rings import Ring
 from twozeros.sayings import is_empty, yes
 from twozeros.stairs import stairs
 from twozeros.tables import table
@@ -22,12 +25,13 @@ def no_integers():
 
 
 def objects_of_messages():
-    """Objects of layouts, messages, receivers and boxes."""
+    """Objects of layouts, messages, receivers, boxes, chains, rings and desks."""
     layout = Layout(["a", "b"], [("c", "a", "b")])
     message = Message(layout, 4, {"a": 9})
     return [
         layout, message, {"a": message}, (layout, [message]), Summing(), Sparing(), Box("a"), Box("a", ("b", named("c"))),
         Mend("a", "c", "a", "n"), Look("a", yes()), LookMend("a", yes(), "c", "a", "n"), [Box("a")], Summing,
+        Chain(), Chain(Box("a")), Ring(("a",), [("c", (("a", 1),))]), Desk(), {"a": Chain()}, (Desk(),),
     ]
 
 

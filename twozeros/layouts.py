@@ -84,7 +84,7 @@ def are_members(members, known):
     names = [member for member in members if not is_whole(member)]
     if len(integers) > 1 or not all([is_from(member, 1, MOST_NUMBER) for member in integers]):
         return False
-    return all([is_name(name) and name in known and name not in names[:at] for at, name in enumerate(names)])
+    return all([name in known and name not in names[:at] for at, name in enumerate(names)])
 
 
 def members_of(layout, check):
