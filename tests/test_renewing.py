@@ -250,7 +250,7 @@ class RightRows(unittest.TestCase):
     def test_longer_rows(self):
         ring = Ring(("s",), [("c", (("d", 1),)), ("d", (("s", 1),))])
         self.assertEqual(right(ring, "d", "c", "d"), Widths.every())
-        self.assertEqual((right(ring, "d", "c"), right(ring, "c", "d")), (Widths.every(), always(ring.fits.replaced(renewed(ring, "c", "d")))))
+        self.assertEqual(right(ring, "d", "c"), Widths.every())
         self.assertFalse(right(ring, "c", "d") == Widths.every())
 
     def test_errors_when_the_iteration_begins(self):
@@ -258,16 +258,12 @@ class RightRows(unittest.TestCase):
         covers = [(check, tuple((name, 2) for name in "stcde")) for check in "cde"]
         rows = right_rows(Ring(contents, covers))
         raised(self, TooLarge, lambda: next(rows), what="size", most=60)
-        # The first row alone is not too large.
-        ring = Ring(("s",), [("e", (("s", 1),)), ("d", (("d", 1),)), ("c", (("d", 2), ("e", 2), ("s", 2)))])
-        for row in itertools.permutations("cde"):
-            try:
-                right(ring, *row)
-            except TooLarge as error:
-                with self.assertRaises(TooLarge) as caught:
-                    next(right_rows(ring))
-                self.assertEqual(vars(caught.exception), vars(error))
-                break
+        # Of the rows c, d and d, c the later one alone is too large; nothing is told ahead of that.
+        ring = Ring(("s",), [("c", (("d", 8), ("s", 2))), ("d", (("s", 3), ("d", 9), ("c", 8)))], summed=("c",))
+        self.assertEqual(type(right(ring, "c", "d")), Widths)
+        raised(self, TooLarge, lambda: right(ring, "d", "c"), what="length", most=5040)
+        later = right_rows(ring)
+        raised(self, TooLarge, lambda: next(later), what="length", most=5040)
 
 
 class LeastMend(unittest.TestCase):
