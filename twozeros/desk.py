@@ -90,11 +90,17 @@ def put_in(state, part):
 
 
 def with_message(state, message):
+    """The state with another message."""
     return State(state.kept, state.layout, message, state.chain)
 
 
 def with_box(state, box):
+    """The state with one more box at the end of the chain."""
     return State(state.kept, state.layout, state.message, state.chain + Chain(box))
+
+
+# Each function of a line takes the state and the line's parts: those of changes return another state, so that the older
+# one can come back, and those of questions a text.
 
 
 def keep(state, parts):

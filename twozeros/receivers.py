@@ -41,6 +41,9 @@ class Receiver:
         return isinstance(other, Receiver) and self.word == other.word
 
 
+# What all receivers do stands in each class again, because what the interface lists is not to be inherited.
+
+
 class Summing(Receiver):
     """Takes a check that makes the sum FULL."""
 
